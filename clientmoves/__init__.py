@@ -1,0 +1,1 @@
+"""Clients of a member that can't go on, moved to others."""
