@@ -4,6 +4,7 @@ from clientmoves.limits import HOUSE_IS_FULL, IS_A_TAKER, KEY_IS_USED, NOT_THERE
 from clientmoves.limits import MOST_CLIENTS, MOST_MEMBERS
 from clientmoves.limits import has_one_twice, is_key, is_list_of_keys, is_order, is_room
 from clientmoves.placing import places_told
+from clientmoves.refusals import refusal_of_client, refusal_of_member
 
 
 def add_member(house, key, room):
@@ -34,20 +35,18 @@ def add_client(house, key, order, takers):
 
 
 def end_member(house, key):
-    if not is_key(key):
-        return [OUT_OF_RANGE]
-    if key not in house.rooms:
-        return [NOT_THERE]
+    refusal = refusal_of_member(house, key)
+    if refusal:
+        return refusal
     if house.is_taker(key):
         return [IS_A_TAKER]
     return [house.rooms.pop(key)]
 
 
 def drop_client(house, key):
-    if not is_key(key):
-        return [OUT_OF_RANGE]
-    if key not in house.orders:
-        return [NOT_THERE]
+    refusal = refusal_of_client(house, key)
+    if refusal:
+        return refusal
     house.forget_client(key)
     return [0]
 

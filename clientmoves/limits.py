@@ -4,6 +4,7 @@ OUT_OF_RANGE = -1
 KEY_IS_USED = -2
 ONE_TWICE = -3
 NOT_THERE = -4
+IS_MOVED = -6
 IS_A_TAKER = -7
 HOUSE_IS_FULL = -9
 
@@ -12,6 +13,7 @@ HIGHEST_ROOM = 16
 HIGHEST_ORDER = 1000000
 MOST_MEMBERS = 8
 MOST_CLIENTS = 16
+MOST_PLACES = 32
 
 
 def is_key(number):
@@ -28,6 +30,13 @@ def is_order(number):
 
 def is_list_of_keys(numbers):
     return len(numbers) <= MOST_MEMBERS and all([is_key(number) for number in numbers])
+
+
+# A client's key and its member's, for each place: so their count is even.
+def is_list_of_places(numbers):
+    if len(numbers) > MOST_PLACES or len(numbers) % 2 == 1:
+        return False
+    return all([is_key(number) for number in numbers])
 
 
 def has_one_twice(numbers):

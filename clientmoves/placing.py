@@ -12,18 +12,25 @@ class Plan:
     # Those who have a place may have to go elsewhere for it, but never lose it:
     # so whether the client gets one doesn't hang on where they are by now.
     def give_place(self, client, wanted):
+        comers = self.comers_for(client, wanted)
+        for member in comers:
+            if self.free[member] > 0:
+                self.shift(client, member, comers)
+                return True
+        return False
+
+    # Each member that can be reached, the nearest first, with the client that
+    # would come to it. If none has room, the clients there have nowhere else to go.
+    def comers_for(self, client, wanted):
         comers = {}
         for member in wanted:
             comers[member] = client
         reached = list(wanted)
         at = 0
-        while at < len(reached) and self.free[reached[at]] == 0:
+        while at < len(reached):
             self.reach_on(reached[at], comers, reached)
             at += 1
-        if at == len(reached):
-            return False
-        self.shift(client, reached[at], comers)
-        return True
+        return comers
 
     # A full member needn't be an end: whoever is there may go on to another
     # taker, but for those whose place is told already.
@@ -67,6 +74,11 @@ def moved_clients(plan, clients):
     return moved
 
 
+# Of these clients alone, gone through as they are listed.
+def moved_of(house, clients):
+    return moved_clients(Plan(house.rooms, house.takers), clients)
+
+
 # The clients moved in order, each with the member that it goes to.
 def places_told(house):
     plan = Plan(house.rooms, house.takers)
@@ -78,5 +90,20 @@ def places_told(house):
 
 def clients_left(house):
     clients = house.clients_in_order()
-    moved = moved_clients(Plan(house.rooms, house.takers), clients)
+    moved = moved_of(house, clients)
     return [client for client in clients if client not in moved]
+
+
+# Some clients can be placed if none of them is left when they are gone through,
+# in whatever order.
+def can_go_to(house, moved, client, member):
+    takers = dict(house.takers)
+    takers[client] = [member]
+    return len(moved_clients(Plan(house.rooms, takers), moved)) == len(moved)
+
+
+# With as many members as clients: the one that each of them goes to.
+def is_placing(house, clients, members):
+    if any([member not in house.takers[client] for client, member in zip(clients, members)]):
+        return False
+    return all([members.count(member) <= house.rooms[member] for member in members])

@@ -18,6 +18,10 @@ class House:
         pairs = sorted([(self.orders[client], client) for client in self.orders])
         return [pair[1] for pair in pairs]
 
+    def clients_before(self, client):
+        clients = self.clients_in_order()
+        return clients[:clients.index(client)]
+
     def forget_client(self, client):
         self.orders.pop(client)
         self.takers.pop(client)

@@ -27,11 +27,39 @@ class Form(unittest.TestCase):
                          [1, 0, 1, 0, 1, 0, 3, 2, 5, 6])
         self.assertEqual(answers([0, 10, 1, 1, 5, 0, 1, 10, 10, 5]), [1, 0, 1, 0, 1, 10])
 
+    def test_numbers_of_the_calls_that_tell_reasons_and_plans(self):
+        house = [0, 20, 1, 0, 10, 1, 1, 6, 1, 1, 10, 1, 5, 0, 2, 10, 20, 1, 7, 2, 2, 20, 10]
+        for calls, told in (
+            ([11, 7], [3, 2, 10, 20]),
+            ([11, 5], [1, -6]),
+            ([12, 7, 2, 20, 10], [1, 1]),
+            ([12, 7, 0], [1, 0]),
+            ([13, 0], [1, 3]),
+            ([13, 1, 10], [1, 3]),
+            ([13, 2, 20, 10], [1, 2]),
+            ([14], [3, 2, 10, 20]),
+            ([15, 6], [2, 1, 7]),
+            ([15, 7], [1, 0]),
+            ([16, 10], [2, 1, 7]),
+            ([17, 7], [2, 1, 6]),
+            ([17, 5], [1, 0]),
+            ([18, 5, 20], [1, 1]),
+            ([18, 5, 10], [1, 0]),
+            ([19, 4, 5, 20, 6, 10], [1, 1]),
+            ([19, 4, 5, 10, 6, 20], [1, 0]),
+            ([19, 0], [1, 0]),
+            ([20], [5, 2, 10, 1, 20, 1]),
+            ([21], [15, 3, 5, 0, 2, 10, 20, 6, 1, 1, 10, 7, 2, 2, 20, 10]),
+        ):
+            with self.subTest(calls=calls):
+                self.assertEqual(answers(house + calls + [20])[10:], told + [5, 2, 10, 1, 20, 1])
+
     def test_a_refusal_is_one_number_alone(self):
         self.assertEqual(answers([0, 0, 0, 3, 4, 10, 4]), [1, -1, 1, -4, 1, -4])
 
     def test_what_is_given_back_is_a_list_of_whole_numbers(self):
-        told = answers([0, 10, 1, 1, 5, 0, 1, 10, 8, 9, 10, 5, 7, 2, 10])
+        told = answers([0, 10, 1, 1, 5, 0, 1, 10, 1, 6, 0, 1, 10, 8, 9, 10, 5, 11, 6, 12, 6, 1, 10, 12, 6, 0, 13, 0, 14,
+                        15, 5, 16, 10, 17, 6, 18, 5, 10, 18, 6, 10, 19, 2, 5, 10, 19, 0, 20, 21, 7, 3, 6, 2, 10])
         self.assertIs(type(told), list)
         self.assertEqual({type(number) for number in told}, {int})
 
@@ -39,6 +67,10 @@ class Form(unittest.TestCase):
         for count in (9, 40):
             self.assertEqual(answers([1, 5, 0, count] + [7] * count + [9]), [1, -1, 1, 0])
             self.assertEqual(answers([6, 5, count] + [7] * count + [9]), [1, -1, 1, 0])
+            self.assertEqual(answers([12, 5, count] + [7] * count + [9]), [1, -1, 1, 0])
+            self.assertEqual(answers([13, count] + [7] * count + [9]), [1, -1, 1, 0])
+        for count in (33, 34, 40):
+            self.assertEqual(answers([19, count] + [7] * count + [9]), [1, -1, 1, 0])
 
 
 class Changes(unittest.TestCase):

@@ -9,7 +9,11 @@ from tests.plain import set_up, small_house, written
 
 CALLS = written(set_up({1: 1, 2: 1}, [(1, 0, [2, 1]), (2, 1, [2]), (3, 1, [])])
                 + [("moved",), ("takers", 3, [1]), ("client", 4, 0, [1] * 40), ("left",), ("move",),
-                   ("room", 1, 4), ("drop", 3), ("gone", 2), ("where", 3)])
+                   ("room", 1, 4), ("drop", 3), ("gone", 2), ("where", 3)]
+                + set_up({8: 1, 9: 1}, [(7, 0, [9, 8]), (6, 1, [9]), (5, 2, [8, 9]), (8, 3, [1])])
+                + [("why", 5), ("check", 5, [9, 8]), ("bound", [9, 1]), ("cover",), ("without", 7), ("roomier", 8),
+                   ("first", 5), ("may", 7, 9), ("isplan", [7, 8, 6, 9, 8, 1]), ("isplan", [7] * 40), ("members",),
+                   ("clients",)])
 
 
 class Watched(list):
@@ -42,7 +46,13 @@ class HandedIn(unittest.TestCase):
     def test_the_same_for_many_houses(self):
         chance = Random(6)
         for number in range(200):
-            calls = written(set_up(*small_house(chance)) + [("moved",), ("left",), ("move",), ("left",)])
+            rooms, clients = small_house(chance)
+            more = [("moved",), ("left",), ("cover",), ("bound", list(rooms)), ("members",), ("clients",)]
+            more += [(name, client[0]) for client in clients for name in ("why", "without", "first")]
+            more += [("check", client[0], client[2]) for client in clients] + [("roomier", key) for key in rooms]
+            more += [("may", client[0], key) for client in clients for key in client[2]]
+            more += [("isplan", [client[0], key]) for client in clients for key in client[2]]
+            calls = written(set_up(rooms, clients) + more + [("move",), ("left",)])
             kept = list(calls)
             self.assertEqual(answers(calls), answers(calls))
             self.assertEqual(calls, kept)
@@ -69,6 +79,21 @@ class FullHouses(unittest.TestCase):
         clients += [(8 + key, 1, keys[:key]) for key in range(1, 9)]
         house = set_up({key: 2 for key in keys}, clients)
         self.quick(house, [("moved",), ("left",), ("where", 1), ("where", 16)])
+
+    def test_400_calls_of_each_kind_that_changes_nothing(self):
+        keys = list(range(1, 9))
+        plan = [number for key in range(1, 17) for number in (key, (key + 1) // 2)]
+        each = [
+            ("moved",), ("left",), ("where", 16), ("why", 16), ("check", 16, keys), ("bound", keys), ("cover",),
+            ("without", 1), ("roomier", 8), ("first", 16), ("may", 1, 8), ("isplan", plan), ("members",), ("clients",),
+        ]
+        for room in (1, 2, 16):
+            pushing = [(key, 0, keys) for key in range(1, 9)] + [(8 + key, 1, keys[:key]) for key in range(1, 9)]
+            for clients in ([(key, 0, keys) for key in range(1, 17)], pushing):
+                house = set_up({key: room for key in keys}, clients)
+                self.quick(house, each)
+                for call in each:
+                    self.quick(house, [call])
 
     def test_400_calls_by_chance(self):
         chance = Random(7)

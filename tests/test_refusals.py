@@ -1,8 +1,9 @@
 """Each refusal of each call, which one is told where several are due, and that nothing changes."""
 
 import unittest
+from random import Random
 
-from tests.plain import asked, revealed, set_up
+from tests.plain import asked, revealed, set_up, small_house
 
 BIG = 10 ** 18
 NO_KEYS = (0, -1, 1000000001, BIG, -BIG)
@@ -41,7 +42,35 @@ REFUSED = (
     + [(("takers", 10, [10]), -4), (("takers", 99, []), -4)]
     + [(("where", key), -1) for key in NO_KEYS]
     + [(("where", 99), -4), (("where", 10), -4)]
+    + [(("why", key), -1) for key in NO_KEYS]
+    + [(("why", 99), -4), (("why", 10), -4), (("why", 5), -6), (("why", 7), -6)]
+    + [(("check", key, [10]), -1) for key in NO_KEYS]
+    + [(("check", 5, [10, key]), -1) for key in NO_KEYS]
+    + [(("check", 5, list(range(1, 10))), -1), (("check", 5, [10] * 40), -1)]
+    + [(("check", 5, [20, 10, 20]), -3), (("check", 5, [10, 99]), -4), (("check", 5, [5]), -4)]
+    + [(("check", 99, [10]), -4), (("check", 10, []), -4)]
+    + [(("bound", [10, key]), -1) for key in NO_KEYS]
+    + [(("bound", list(range(1, 10))), -1), (("bound", [10] * 40), -1)]
+    + [(("bound", [20, 10, 20]), -3), (("bound", [10, 99]), -4), (("bound", [5]), -4)]
+    + [((name, key), -1) for name in ("without", "roomier", "first") for key in NO_KEYS]
+    + [(("without", 99), -4), (("without", 10), -4), (("first", 99), -4), (("first", 10), -4)]
+    + [(("roomier", 99), -4), (("roomier", 5), -4)]
+    + [(("may", key, 10), -1) for key in NO_KEYS]
+    + [(("may", 5, key), -1) for key in NO_KEYS]
+    + [(("may", 99, 10), -4), (("may", 10, 10), -4), (("may", 5, 99), -4), (("may", 5, 5), -4)]
+    + [(("isplan", [5, key, 7, 10]), -1) for key in NO_KEYS]
+    + [(("isplan", [5, 20, key, 10]), -1) for key in NO_KEYS]
+    + [(("isplan", [5]), -1), (("isplan", [5, 20, 7]), -1), (("isplan", [5, 20, 7, 10, 5]), -1)]
+    + [(("isplan", [5, 20] * 17), -1), (("isplan", [5, 20] * 20), -1), (("isplan", [5] * 33), -1)]
 )
+# Calls that change nothing when they aren't refused either, on SMALL and on others alike.
+CHANGING_NOTHING = [
+    ("moved",), ("left",), ("where", 5), ("where", 6), ("why", 6), ("check", 5, [10, 20]), ("check", 6, []),
+    ("check", 7, [30, 20, 10]), ("bound", []), ("bound", [30, 10]), ("cover",), ("without", 5), ("without", 6),
+    ("without", 7), ("roomier", 10), ("roomier", 20), ("roomier", 30), ("first", 5), ("first", 6), ("first", 7),
+    ("may", 5, 10), ("may", 5, 20), ("may", 5, 30), ("may", 6, 10), ("may", 7, 20), ("isplan", []),
+    ("isplan", [5, 20, 7, 10]), ("isplan", [7, 10, 5, 20]), ("isplan", [5, 10, 7, 10]), ("members",), ("clients",),
+]
 # Refused calls on FULL.
 REFUSED_FULL = [
     (("member", 9, 0), -9), (("member", 1000000000, 16), -9), (("client", 17, 0, []), -9),
@@ -64,6 +93,16 @@ SEVERAL = [
     (("takers", 99, [0, 0]), -1), (("takers", 1, [99, 0]), -1), (("takers", 99, [0]), -1),
     (("takers", 99, [1, 1]), -3), (("takers", 1, [99, 99]), -3), (("takers", 99, [98, 98]), -3),
     (("takers", 99, [98]), -4),
+    (("why", 0), -1), (("without", 0), -1), (("roomier", 0), -1), (("first", 0), -1),
+    (("check", 0, [1, 1]), -1), (("check", 0, [99]), -1), (("check", 0, [0]), -1), (("check", 0, [1] * 9), -1),
+    (("check", 99, [0, 0]), -1), (("check", 99, [1] * 9), -1), (("check", 1, [99, 0]), -1),
+    (("check", 99, [99, 99, 0]), -1), (("check", 99, [98, 98]), -3), (("check", 99, [1, 1]), -3),
+    (("check", 1, [2, 99, 1, 2]), -3), (("check", 99, [98]), -4), (("check", 99, [1]), -4),
+    (("bound", [0, 0]), -1), (("bound", [1] * 9), -1), (("bound", [99, 0]), -1), (("bound", [99, 99]), -3),
+    (("bound", [1, 99, 1]), -3), (("bound", [99]), -4),
+    (("may", 0, 99), -1), (("may", 99, 0), -1), (("may", 0, 0), -1), (("may", 3, 0), -1), (("may", 99, 98), -4),
+    (("may", 3, 99), -4), (("may", 99, 1), -4),
+    (("isplan", [0, 99, 1]), -1), (("isplan", [99, 98, 97, 0]), -1), (("isplan", [0] * 34), -1),
 ]
 
 
@@ -79,6 +118,32 @@ class Refusals(unittest.TestCase):
         for call, number in REFUSED:
             with self.subTest(call=call):
                 self.expect(house, call, number, after)
+
+    def test_what_changes_nothing(self):
+        house = SMALL + FREE_MEMBER
+        after = revealed([10, 20, 30, 40], [5, 6, 7]) + [("member", 50, 1), ("client", 8, 2, [50])]
+        expected = asked(house + after)[len(house):]
+        for call in CHANGING_NOTHING:
+            with self.subTest(call=call):
+                self.assertEqual(asked(house + [call] + after)[len(house) + 1:], expected)
+        self.assertEqual(asked(house + CHANGING_NOTHING + after)[len(house) + len(CHANGING_NOTHING):], expected)
+
+    def test_what_changes_nothing_by_chance(self):
+        chance = Random(51)
+        after = [("members",), ("clients",), ("moved",), ("left",), ("cover",), ("move",), ("members",), ("clients",)]
+        for number in range(200):
+            rooms, clients = small_house(chance)
+            keys, members = [client[0] for client in clients], list(rooms)
+            calls = [("cover",), ("bound", members), ("moved",), ("left",), ("members",), ("clients",)]
+            calls += [(name, key) for name in ("where", "why", "without", "first") for key in keys]
+            calls += [("check", key, members) for key in keys] + [("roomier", key) for key in members]
+            calls += [("may", key, member) for key in keys for member in members]
+            calls += [("isplan", [key, member]) for key in keys for member in members]
+            house = set_up(rooms, clients)
+            with self.subTest(rooms=rooms, clients=clients):
+                told = asked(house + calls + calls + after)[len(house):]
+                self.assertEqual(told[:len(calls)], told[len(calls):2 * len(calls)])
+                self.assertEqual(told[2 * len(calls):], asked(house + after)[len(house):])
 
     def test_a_full_house_refuses_more_and_changes_nothing(self):
         after = [("moved",), ("left",)] + [("drop", key) for key in range(3, 17)]
@@ -98,6 +163,10 @@ class Refusals(unittest.TestCase):
                                 ("gone", 1), ("drop", 1), ("room", 1, 1), ("order", 1, 1), ("where", 1),
                                 ("takers", 1, []), ("left",), ("moved",)]),
                          [[-3], [-4], [-4], [-4], [-4], [-4], [-4], [-4], [-4], [0], [0]])
+        self.assertEqual(asked([("why", 1), ("check", 1, [99, 99]), ("check", 1, [99]), ("check", 1, []),
+                                ("bound", [1, 1]), ("bound", [1]), ("without", 1), ("roomier", 1), ("first", 1),
+                                ("may", 1, 1), ("may", 1, 0), ("isplan", [1]), ("isplan", [1, 1])]),
+                         [[-4], [-3], [-4], [-4], [-3], [-4], [-4], [-4], [-4], [-4], [-1], [-1], [0]])
 
     def test_what_was_refused_may_be_told_rightly_after(self):
         self.assertEqual(asked([("member", 1, 17), ("member", 1, 16), ("client", 1, 0, [2]),
